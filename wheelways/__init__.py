@@ -1,0 +1,1 @@
+"""Locks of wheels of any sizes, and ways through all their settings."""

@@ -4,10 +4,13 @@ from decimal import Decimal
 from fractions import Fraction
 from itertools import product
 
+from wheelways.around import around, ring_number, ring_setting
 from wheelways.forth import number_of, setting_of
+from wheelways.texts import written
 from wheelways.wheels import apart, near, settings
 
 SIXTY_FIGURES = 10 ** 59 + 7
+MOST_WRITTEN = 10 ** 60 - 1
 MANY_FIGURES = 10 ** 5000 + 3
 
 
@@ -48,6 +51,28 @@ def large_wheels():
     ]
 
 
+def large_rings():
+    """Wheels with a ring of more settings than anyone could go along."""
+    return [
+        [2] * 60,
+        [3] * 59 + [4],
+        [4] + [3] * 59,
+        [3] * 30 + [4] + [3] * 29,
+        [1] * 20 + [2] + [1] * 20 + [3] + [1] * 20,
+        [1, 3, 1, 5, 1, 2, 1],
+        list(range(1, 61)),
+        [SIXTY_FIGURES + at for at in range(60)],
+        [SIXTY_FIGURES + 1] + [SIXTY_FIGURES] * 59,
+        [SIXTY_FIGURES] * 59 + [SIXTY_FIGURES + 1],
+        [SIXTY_FIGURES] * 30 + [2] + [SIXTY_FIGURES] * 29,
+        [2, SIXTY_FIGURES],
+        [SIXTY_FIGURES, 2],
+        [MOST_WRITTEN, 1, 10 ** 60, 1, 10 ** 75 + 1],
+        [1, MANY_FIGURES, 2, MANY_FIGURES + 1, 1],
+        [7, 10] * 500,
+    ]
+
+
 def all_settings(wheels):
     """All settings in order as lists are, found without the package."""
     return [list(places) for places in product(*[range(size) for size in wheels])]
@@ -57,6 +82,23 @@ def is_step(one, other):
     """Whether two settings of the same wheels are a step apart."""
     changes = [abs(here - there) for here, there in zip(one, other) if here != there]
     return changes == [1]
+
+
+def neighbours(wheels, setting):
+    """The settings a step away, found without the package."""
+    return [other for other in all_settings(wheels) if is_step(setting, other)]
+
+
+def has_ring(wheels):
+    """Whether there is a ring of all settings, by a count of all and of their neighbours.
+
+    Where neither count bars it, the tests of the ring go along one; where
+    there are few settings, the tests of the answers search for one, too.
+    """
+    everything = all_settings(wheels)
+    if len(everything) % 2 == 1:
+        return False
+    return all(len(neighbours(wheels, setting)) >= 2 for setting in everything)
 
 
 def no_lists():
@@ -102,6 +144,20 @@ def bad_settings():
     return found
 
 
+def no_texts():
+    """Things of many kinds that are no texts; no number with a point is among them."""
+    return [thing for thing in no_lists() if not isinstance(thing, str)] + [
+        [], [":"], ["2: 0"], [[2], [0]], ([2], [0]), b":", b"2: 0", bytearray(b":"), [2, 3], (":",),
+    ]
+
+
+def some_numbers(many):
+    """The first, last and middle numbers below many, and others between."""
+    found = [0, 1, 2, 3, many // 2 - 1, many // 2, many // 2 + 1, many // 3, many // 7 * 5,
+             many - 4, many - 3, many - 2, many - 1]
+    return [number for number in found if 0 <= number < many]
+
+
 def setting_doors():
     """Each door that takes wheels and a setting, as a function of these two."""
     return [
@@ -110,6 +166,8 @@ def setting_doors():
         lambda wheels, setting: apart(wheels, setting, [0] * 3),
         lambda wheels, setting: apart(wheels, [0] * 3, setting),
         lambda wheels, setting: apart(wheels, setting, setting),
+        ring_number,
+        written,
     ]
 
 
@@ -121,4 +179,8 @@ def wheel_doors():
         lambda wheels: apart(wheels, [0, 0, 0], [1, 0, 2]),
         lambda wheels: setting_of(wheels, 0),
         lambda wheels: number_of(wheels, [0, 0, 0]),
+        around,
+        lambda wheels: ring_setting(wheels, 0),
+        lambda wheels: ring_number(wheels, [0, 0, 0]),
+        lambda wheels: written(wheels, [0, 0, 0]),
     ]

@@ -3,20 +3,13 @@
 import unittest
 
 from tests.helpers import (MANY_FIGURES, SIXTY_FIGURES, all_settings, is_step, large_wheels,
-                           small_wheels)
+                           small_wheels, some_numbers)
 from wheelways.forth import number_of, setting_of
 from wheelways.wheels import settings
 
 
 def way(wheels):
     return [setting_of(wheels, number) for number in range(settings(wheels))]
-
-
-def some_numbers(many):
-    """The first, last and middle numbers below many, and others between."""
-    found = [0, 1, 2, 3, many // 2 - 1, many // 2, many // 2 + 1, many // 3, many // 7 * 5,
-             many - 4, many - 3, many - 2, many - 1]
-    return [number for number in found if 0 <= number < many]
 
 
 class SmallWheels(unittest.TestCase):

@@ -12,6 +12,23 @@ INTERFACE = {
     "errors.py": ["WheelError", "BadWheels", "BadSetting", "BadNumber", "NoRing", "BadText"],
     "wheels.py": ["settings", "near", "apart"],
     "forth.py": ["setting_of", "number_of"],
+    "answers.py": ["Answer", "Around", "Dead", "Odd"],
+    "around.py": ["around", "ring_setting", "ring_number"],
+    "texts.py": ["written", "read"],
+}
+
+# What the interface lists, door by door.
+ARGUMENTS = {
+    "settings": ["wheels"],
+    "near": ["wheels", "setting"],
+    "apart": ["wheels", "one", "other"],
+    "setting_of": ["wheels", "number"],
+    "number_of": ["wheels", "setting"],
+    "around": ["wheels"],
+    "ring_setting": ["wheels", "number"],
+    "ring_number": ["wheels", "setting"],
+    "written": ["wheels", "setting"],
+    "read": ["text"],
 }
 
 BUILTINS = {
@@ -99,6 +116,25 @@ class Language(unittest.TestCase):
             defined = {node.name for node in tree_of(PACKAGE / name).body
                        if isinstance(node, (ast.FunctionDef, ast.ClassDef))}
             self.assertLessEqual(set(due), defined, name)
+
+    def test_arguments_are_called_as_listed(self):
+        found = {}
+        for path in files():
+            for node in tree_of(path).body:
+                if isinstance(node, ast.FunctionDef) and node.name in ARGUMENTS:
+                    found[node.name] = [arg.arg for arg in node.args.args]
+        self.assertEqual(found, ARGUMENTS)
+
+    def test_each_answer_has_its_methods_in_itself(self):
+        methods = {}
+        for node in tree_of(PACKAGE / "answers.py").body:
+            if isinstance(node, ast.ClassDef):
+                methods[node.name] = {part.name: [arg.arg for arg in part.args.args]
+                                      for part in node.body if isinstance(part, ast.FunctionDef)}
+        shows = ["self", "wheels"]
+        self.assertEqual(methods["Around"], {"shows": shows})
+        self.assertEqual(methods["Odd"], {"shows": shows})
+        self.assertEqual(methods["Dead"], {"shows": shows, "__init__": ["self", "setting"]})
 
 
 if __name__ == "__main__":

@@ -21,15 +21,20 @@ def check_wheels(wheels):
             raise BadWheels("a size is a whole number from 1 on")
 
 
-def check_setting(wheels, setting):
-    """Raise BadSetting unless it is a setting of these wheels."""
-    if not isinstance(setting, list):
-        raise BadSetting("a setting is a list of numbers")
-    if len(setting) != len(wheels):
-        raise BadSetting("a setting has a number for each wheel")
+def is_setting(wheels, setting):
+    """Whether it is a setting of these wheels."""
+    if not isinstance(setting, list) or len(setting) != len(wheels):
+        return False
     for size, place in zip(wheels, setting):
         if not is_whole(place) or not 0 <= place < size:
-            raise BadSetting("a number of a setting is from 0 to one less than the size")
+            return False
+    return True
+
+
+def check_setting(wheels, setting):
+    """Raise BadSetting unless it is a setting of these wheels."""
+    if not is_setting(wheels, setting):
+        raise BadSetting("a setting is a list with a number for each wheel, below its size")
 
 
 def check_number(number, many):
